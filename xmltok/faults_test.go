@@ -111,14 +111,31 @@ func TestWrongDeclarations(t *testing.T) {
 	for s, col := range map[string]int{
 		"<?xml version": 14, "<?xml version ": 15, "<?xml version=": 15, "<?xml version= ": 16, "<?xml version='": 16, "<?xml version='1.0": 19, "<?xml v": 8, "<?xml é": 8,
 		"<?xml version?>": 14, "<?xml version 1.0?>": 15, "<?xml version=1.0?>": 15, "<?xml version==": 15, "<?xml version='1.0\"?>": 22, "<?xml version='<'?>": 16, "<?xml version='1.0<": 19,
-		"<?xml version='1.0'encoding='UTF-8'?>": 20, "<?xml version='1.0'é": 20, "<?xml version='1.1' encoding?>": 29, "<?xml a='b' b>": 14, "<?xml version='1.0' x": 22,
-		"<?xml version='1.0' encoding='UTF-8'standalone='no'?>": 37, "<?xml version='1.0' encoding='UTF-8' standalone=no?>": 49,
+		"<?xml version='1.1' encoding?>": 29, "<?xml a='b' b>": 14, "<?xml v='1.0' b>": 16, "<?xml version='1.0' x": 22, "<?xml version='1.0' encoding='UTF-8' standalone=no?>": 49,
 	} {
 		refuses(t, s, api.ErrMarkup, 1, col)
 	}
 	refuses(t, "<?xml\nversion\n=\n1.0?>", api.ErrMarkup, 4, 1)
 	refuses(t, "<?xml version='1.1' a='&b;'?>", api.ErrRef, 1, 24)
 	refuses(t, "<?xml version='1.1' a='<'?>", api.ErrMarkup, 1, 24)
+}
+
+// P2.1: a declaration's attributes end at a value without a blank behind it, so that no ?> is behind them; in a tag what stands there is told itself.
+func TestNoBlankBehindAValue(t *testing.T) {
+	for _, ahead := range []string{
+		"g=''", "a='b'", "version='1.0'", "version=\"1.0\"", "version='1.1'", "version='1.0' encoding='utf-8'", "version='1.0' encoding='utf-8 '", "\nversion\t=\n'1.0' encoding = \"UTF-8\" standalone='no'",
+	} {
+		for _, behind := range []string{
+			"t", "x", "é", "_", ":", "encoding", "encoding=", "encoding=5", "encoding='", "encoding='<", "encoding='&", "encoding='UTF-8'", "standalone='no' ?>", "encoding=\"UTF-8\"?>", "version='1.0'?>", "version='1.0' x?>",
+			"5", "-", ".", "='1'?>", "'", "\"?>", "/", "/>", ">", "<a/>", "&lt;", "? >", strings.Repeat("n", 65), strings.Repeat("é", 65) + "='1'?>",
+		} {
+			refuses(t, "<?xml "+ahead+behind, api.ErrMarkup, 1, 1)
+			if behind[0] != '/' && behind[0] != '>' {
+				at := placeAt("<a "+ahead+behind, len("<a "+ahead))
+				refuses(t, "<a "+ahead+behind, api.ErrMarkup, at.Line, at.Col)
+			}
+		}
+	}
 }
 
 // P2.1: instructions whose name is xml, in letters of any size, anywhere.

@@ -96,20 +96,14 @@ func (r *reader) tag(t api.Tok) {
 	r.list = append(r.list, t)
 }
 
-// attributes takes those that stand here, and the blanks behind them; what else stands there is the caller's.
+// attributes takes those that stand here, and the blanks behind them. What else stands there is the caller's, a name without a blank ahead of it too: it is no attribute.
 func (r *reader) attributes() []api.Attr {
 	var list []api.Attr
-	for {
-		apart := r.blanks()
-		if !r.beginsName() {
-			return list
-		}
-		if !apart {
-			fail(api.ErrMarkup, r.at)
-		}
+	for r.blanks() && r.beginsName() {
 		a := r.attribute()
 		list = append(list, a)
 	}
+	return list
 }
 
 func (r *reader) attribute() api.Attr {

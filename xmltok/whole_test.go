@@ -19,7 +19,7 @@ type outcome struct {
 
 // A second reader, made of patterns: of each part the longest beginning that may still become one, behind which the fault lies.
 type patterns struct {
-	startTag, startBegun, inValue, attr, endTag, endBegun, told, toldBegun, ref *regexp.Regexp
+	startTag, startBegun, inValue, attr, endTag, endBegun, told, toldBegun, ref, declares, declared, declaredBegun, inDeclared *regexp.Regexp
 }
 
 func newPatterns() patterns {
@@ -47,6 +47,11 @@ func newPatterns() patterns {
 		told:       longest(`<\?(` + n + `)(?:\?>|` + b + `)`),
 		toldBegun:  longest(`<\?(?:` + n + `)?`),
 		ref:        longest(ref),
+
+		declares:      longest(`<\?xml` + b),
+		declared:      longest(`<\?xml((?:` + att + `)*)` + b + `*`),
+		declaredBegun: longest(`<\?xml(?:` + att + `)*(?:` + b + `+` + n + b + `*|` + attr + open + `?)`),
+		inDeclared:    longest(`<\?xml(?:` + att + `)*` + attr + open + `$`),
 	}
 }
 
@@ -96,8 +101,8 @@ func (p patterns) part(s string, first bool) (int, api.Tok, int, api.Errno) {
 		return len(from) + i + len(behind), i >= 0
 	}
 	switch {
-	case first && regexp.MustCompile(`^<\?xml[ \t\n]`).MatchString(s):
-		return bad(0, api.ErrArg) // declarations are left out here
+	case first && p.declares.MatchString(s):
+		return p.declaration(s)
 	case strings.HasPrefix(s, "<!--"):
 		n, ok := upTo("<!--", "--")
 		if !ok || n == len(s) {
@@ -163,17 +168,42 @@ func (p patterns) tag(s string) (int, api.Tok, int, api.Errno) {
 		return 0, api.Tok{}, len(begun), api.ErrMarkup
 	}
 	tok := api.Tok{Kind: api.TokStart, Name: m[1], Empty: strings.HasSuffix(m[0], "/>")}
-	rest := m[2]
-	for i := 1 + len(m[1]); rest != ""; {
+	tok.Attrs = p.attrs(m[2], 1+len(m[1]))
+	return len(m[0]), tok, 0, 0
+}
+
+// attrs are those that stand at i, each with the bytes ahead of it as its column.
+func (p patterns) attrs(rest string, i int) []api.Attr {
+	var list []api.Attr
+	for rest != "" {
 		a := p.attr.FindStringSubmatch(rest)
 		name, value := a[1], a[2][1:len(a[2])-1]
 		value = strings.NewReplacer("\t", " ", "\n", " ").Replace(value)
 		at := i + len(a[0]) - len(strings.TrimLeft(a[0], " \t\n"))
-		tok.Attrs = append(tok.Attrs, attr(0, at, name, p.meaning(value)))
+		list = append(list, attr(0, at, name, p.meaning(value)))
 		i += len(a[0])
 		rest = rest[len(a[0]):]
 	}
-	return len(m[0]), tok, 0, 0
+	return list
+}
+
+// declaration is told at its < where no attribute is begun that can't be read.
+func (p patterns) declaration(s string) (int, api.Tok, int, api.Errno) {
+	m := p.declared.FindStringSubmatch(s)
+	if begun := p.declaredBegun.FindString(s); len(begun) > len(m[0]) {
+		if len(begun) < len(s) && s[len(begun)] == '&' && p.inDeclared.MatchString(begun) {
+			return 0, api.Tok{}, len(begun), api.ErrRef
+		}
+		return 0, api.Tok{}, len(begun), api.ErrMarkup
+	}
+	all := ""
+	for _, a := range p.attrs(m[1], 0) {
+		all += " " + a.Name + "=" + a.Value + ";"
+	}
+	if !regexp.MustCompile(`^ version=1\.0;( encoding=(?i:UTF-8);)?( standalone=(yes|no);)?$`).MatchString(all) || !strings.HasPrefix(s[len(m[0]):], "?>") {
+		return 0, api.Tok{}, 0, api.ErrMarkup
+	}
+	return len(m[0]) + len("?>"), api.Tok{}, 0, 0
 }
 
 // pieces are put together in any order: markup, and what breaks it.
@@ -207,9 +237,6 @@ func TestAsThePatternsTell(t *testing.T) {
 	right, wrong := 0, 0
 	compare := func(doc string) {
 		want := p.read(unified(doc))
-		if want.e == api.ErrArg {
-			return
-		}
 		list, err := Tokens(doc)
 		e, at := api.Tell(err)
 		if !same(list, want.list) || e != want.e || e != api.OK && at != want.at {
@@ -225,6 +252,13 @@ func TestAsThePatternsTell(t *testing.T) {
 	documents(20000, 25, []string{"<a>", "</a>", "<b/>", "<c d='1\"&lt;'>", "<a e=\"2\" f = '\n3\t'\n>", "&gt;", "&#13;", "x", "é\r\n", "\r", "<!-- x - -->", "<?p q?>", "<?p?>", "<![CDATA[y]]>", "<![CDATA[]]>"}, compare)
 	if right < 20000 || wrong < 20000 {
 		t.Error("too few of one sort:", right, wrong)
+	}
+	right, wrong = 0, 0
+	declared := func(doc string) { compare("<?xml" + doc) }
+	documents(30000, 5, []string{" version='1.0'", " version='1.0'", " encoding=\"utf-8\"", "\nstandalone = 'yes'", "?>", "?>", " ?><a/>", "é", " v=''", "'", " ", " =", "<", "&", "&lt;", "x", "/>"}, declared)
+	documents(30000, 7, []string{" ", " ", "\t", "\r\n", "version", "encoding", "standalone", "x", "=", "=", "'", "'", "\"", "1.0", "&#65;", "&", "<", "?>", "?", ">", "'1.0'", "'UTF-8'", "\"no\"", "é"}, declared)
+	if right < 1000 || wrong < 20000 {
+		t.Error("too few declarations of one sort:", right, wrong)
 	}
 }
 
